@@ -1,0 +1,1 @@
+"""Pushedback: coders that are exchanges with one whole number."""

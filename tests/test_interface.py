@@ -1,0 +1,116 @@
+"""The names and parameters of the interface, and where they are defined."""
+
+import ast
+import importlib
+import inspect
+import os
+import unittest
+
+import pushedback
+
+FUNCTIONS = {
+    "kinds": (
+        "is_integer(thing), is_number(thing), is_base(thing), is_quotient(thing), is_digits(base, thing), "
+        "is_text(letters, thing), is_cuts(many, thing)"),
+    "powers": (
+        "power(base, many), common_of(one, other), multiple_of(numbers), choose(many, few), factorial_of(many)"),
+    "quotients": (
+        "plus(one, other), minus(one, other), times(one, other), over(one, other), raised(one, many), "
+        "compare(one, other), least_whole(one), most_whole(one), total_of(quotients), shares_of(quotients)"),
+    "reaches": "places_of(base, number), reach_of(base, one)",
+    "digitrows": (
+        "digits_of(base, number, many), number_of(base, digits), row_of(base, stack), stack_of(base, digits), "
+        "added(base, stack, digits), taken(base, stack, many)"),
+    "evens": (
+        "push_even(stack, many, digit), pop_even(stack, many), push_evens(stack, sizes, digits), "
+        "pop_evens(stack, sizes), push_between(stack, low, high, integer), pop_between(stack, low, high)"),
+    "cutting": "cut_row(digits, cuts), joined(parts), all_cuts(many, parts)",
+    "stacktexts": "stack_line(base, stack)",
+    "stackreadings": "read_stack(text)",
+    "tables": (
+        "is_table(thing), is_strip(thing), sum_of(table), ahead_of(table, letter), letters_of(table), "
+        "strip_of(table), table_of(strip)"),
+    "tablecoder": "push_by(stack, table, letter), pop_by(stack, table)",
+    "strips": (
+        "push_strip(stack, strip, letter), pop_strip(stack, strip), places_in(strip, letter), "
+        "reached(strip, letter, bound), sheet_of(strip)"),
+    "sheetchecker": "lets_sheet(thing)",
+    "leans": (
+        "chance_of(table, letter), is_lean(thing), lean_of(strip, letter), lean_after(one, other), lean_back(one), "
+        "lean_holds(lean, stack, after)"),
+    "rowcoder": (
+        "push_letters(stack, tables, letters), pop_letters(stack, tables), lean_of_row(tables, letters)"),
+    "endless": (
+        "push_endless(stack, stop, going, number), pop_endless(stack, stop, going), "
+        "push_long(stack, stop, going, base, number), pop_long(stack, stop, going, base), "
+        "chance_endless(stop, going, number), chance_long(stop, going, base, number)"),
+    "learnkinds": "is_learner(thing), is_tree(letters, thing), is_share(thing), is_model(thing), depth_of(tree)",
+    "learning": (
+        "table_after(learner, text), chance_learned(learner, text), chance_of_counts(learner, counts), "
+        "push_learned(stack, learner, text), pop_learned(stack, learner, many)"),
+    "contexts": (
+        "leaf_of(tree, past), contexts_of(letters, tree), met_at(context, ahead, text), trees_of(letters, depth), "
+        "prior_of(share, depth, tree)"),
+    "treecoder": (
+        "table_treed(learner, tree, ahead, text), chance_treed(learner, tree, ahead, text), "
+        "push_treed(stack, learner, tree, ahead, text), pop_treed(stack, learner, tree, ahead, many)"),
+    "mixing": (
+        "mass_at(model, ahead, text, context), chance_mixed(model, ahead, text), table_mixed(model, ahead, text)"),
+    "schemekinds": "is_scheme(thing), levels_of(scheme)",
+    "things": "is_thing(scheme, thing), chance_in(scheme, thing), things_of(scheme), how_many(scheme)",
+    "numberings": (
+        "set_rank(many, things), set_by(many, few, rank), order_rank(order), order_by(many, rank)"),
+    "bags": (
+        "bag_of(text), orders_of_bag(bag), chance_of_bag(learner, bag), push_bag(stack, learner, bag), "
+        "pop_bag(stack, learner, many)"),
+    "copying": (
+        "is_spelling(letters, most, thing), text_of_spelling(spelling), "
+        "chance_of_spelling(letters, most, pair, spelling), spellings_of(letters, most, text), "
+        "chance_copied(letters, most, pair, text), push_copied(stack, letters, most, pair, text), "
+        "pop_copied(stack, letters, most, pair, many)"),
+}
+CLASSES = {
+    "stackclasses": {
+        "Stack": (
+            "__init__(self, number)", "__call__(self, many)", "with_even(self, many, digit)",
+            "with_digits(self, base, digits)", "without(self, base, many)", "of_row(base, *digits)", "number_now",
+            "__getitem__", "__str__", "__eq__"),
+        "Rowed": (
+            "__init__(self, base, digits)", "read(text)", "base_now", "digits_now", "__len__", "__iter__", "__str__",
+            "__add__"),
+    },
+}
+
+
+def definitions(module):
+    """The functions and classes that the module's own file defines, by name."""
+    path = os.path.join(os.path.dirname(pushedback.__file__), module + ".py")
+    with open(path, encoding="ascii") as file:
+        body = ast.parse(file.read()).body
+    return {node.name: node for node in body if isinstance(node, (ast.FunctionDef, ast.ClassDef))}
+
+
+class InterfaceTest(unittest.TestCase):
+    def test_functions(self):
+        for module, listed in FUNCTIONS.items():
+            defined = definitions(module)
+            for text in listed.replace("), ", ");").split(";"):
+                name, parameters = text[:-1].split("(")
+                function = getattr(importlib.import_module("pushedback." + module), name)
+                self.assertEqual(list(inspect.signature(function).parameters), parameters.split(", "))
+                self.assertIsInstance(defined[name], ast.FunctionDef)
+
+    def test_classes(self):
+        for module, classes in CLASSES.items():
+            defined = definitions(module)
+            for name, methods in classes.items():
+                here = {node.name: node for node in defined[name].body if isinstance(node, ast.FunctionDef)}
+                for method in methods:
+                    method, _, parameters = method.partition("(")
+                    self.assertIn(method, here)
+                    if parameters:
+                        self.assertEqual(f"({ast.unparse(here[method].args)})", "(" + parameters)
+
+
+if __name__ == "__main__":
+    unittest.main()
