@@ -12,11 +12,14 @@ def is_learner(thing):
 
 def is_tree_of(letters, thing):
     """Whether the thing is a tree of so many letters, the letters known to be a number of them."""
-    if not isinstance(thing, tuple):
-        return False
-    if len(thing) == 0:
-        return True
-    return len(thing) == letters and all([is_tree_of(letters, part) for part in thing])
+    # node by node, since what a line writes may be nested deeper than calls can be
+    waiting = [thing]
+    while len(waiting) > 0:
+        node = waiting.pop()
+        if not isinstance(node, tuple) or len(node) not in (0, letters):
+            return False
+        waiting.extend(node)
+    return True
 
 
 def is_any_tree(thing):
@@ -45,9 +48,12 @@ def is_model(thing):
 
 def tree_depth(tree):
     """How deep a value that is known to be a tree is nested."""
-    if len(tree) == 0:
-        return 0
-    return 1 + max([tree_depth(part) for part in tree])
+    depth = 0
+    parts = list(tree)
+    while len(parts) > 0:
+        depth += 1
+        parts = [below for part in parts for below in part]
+    return depth
 
 
 def depth_of(tree):

@@ -5,6 +5,10 @@ from pushedback.kinds import is_number, is_positive, is_positive_pair
 from pushedback.learnkinds import is_ahead, is_learner, is_model, is_tree_of, tree_depth
 from pushedback.tables import is_table
 
+SCHEME_WORDS = (
+    "even", "table", "row", "choice", "hidden", "learned", "treed", "mixed", "bag", "set", "order", "copies",
+)
+
 
 def is_counted_scheme(word, parts):
     """Whether word and parts are those of a scheme without a learner and without schemes in it."""
@@ -37,28 +41,40 @@ def is_learning_scheme(word, parts):
     return False
 
 
-def is_schemes(thing):
-    """Whether the thing is a tuple of schemes."""
-    return isinstance(thing, tuple) and all([is_scheme(part) for part in thing])
-
-
 def is_parted_scheme(word, parts):
-    """Whether word and parts are those of a scheme with schemes in it."""
+    """Whether word and parts are those of a scheme with schemes in it, whatever stands in their places."""
     if len(parts) == 1:
-        return word == "row" and is_schemes(parts[0])
+        return word == "row" and isinstance(parts[0], tuple)
     if len(parts) == 2 and word in ("choice", "hidden"):
         table, schemes = parts
-        return is_table(table) and is_schemes(schemes) and len(schemes) == len(table)
+        return is_table(table) and isinstance(schemes, tuple) and len(schemes) == len(table)
     return False
 
 
-def is_scheme(thing):
-    """Whether the thing is a scheme."""
+def is_scheme_outside(thing):
+    """Whether the thing is a scheme, if what stands in it in the places of schemes is taken for some."""
     if not isinstance(thing, tuple) or len(thing) < 2:
         return False
     word = thing[0]
     parts = thing[1:]
     return is_counted_scheme(word, parts) or is_learning_scheme(word, parts) or is_parted_scheme(word, parts)
+
+
+def are_schemes(things):
+    """Whether all of the things are schemes."""
+    # one by one, since what a line writes may be nested deeper than calls can be
+    waiting = list(things)
+    while len(waiting) > 0:
+        scheme = waiting.pop()
+        if not is_scheme_outside(scheme):
+            return False
+        waiting.extend(schemes_in(scheme))
+    return True
+
+
+def is_scheme(thing):
+    """Whether the thing is a scheme."""
+    return are_schemes((thing,))
 
 
 def schemes_in(scheme):

@@ -82,7 +82,7 @@ class Rowed(Stack):
         return iter(self._digits)
 
     def __str__(self):
-        return stack_line(self._base, self._number)
+        return str(stack_line(self._base, self._number))
 
     def __add__(self, other):
         """The Rowed with the row other put behind."""

@@ -16,21 +16,30 @@ def letter_places(strip, letter):
     return tuple([place for place in range(len(strip)) if strip[place] == letter])
 
 
+def times_ahead(strip, letter, place):
+    """How often the letter stands ahead of the place in the strip said over and over."""
+    size = len(strip)
+    return strip.count(letter) * (place // size) + strip[:place % size].count(letter)
+
+
+def pushed_onto(stack, strip, letter):
+    """What push_strip gives, for parameters that are known to fit."""
+    places = letter_places(strip, letter)
+    count = len(places)
+    return len(strip) * (stack // count) + places[stack % count]
+
+
 def popped_off(stack, strip):
     """What pop_strip gives, for parameters that are known to fit."""
-    size = len(strip)
-    place = stack % size
-    letter = strip[place]
-    return letter, strip.count(letter) * (stack // size) + strip[:place].count(letter)
+    letter = strip[stack % len(strip)]
+    return letter, times_ahead(strip, letter, stack)
 
 
 def push_strip(stack, strip, letter):
     """The stack with the letter pushed by the strip."""
     need(is_number(stack), "stack")
     need_letter(strip, letter)
-    places = letter_places(strip, letter)
-    count = len(places)
-    return len(strip) * (stack // count) + places[stack % count]
+    return pushed_onto(stack, strip, letter)
 
 
 def pop_strip(stack, strip):
@@ -50,8 +59,7 @@ def reached(strip, letter, bound):
     """How many stacks there are onto which pushing the letter gives less than bound."""
     need_letter(strip, letter)
     need(is_number(bound), "bound")
-    size = len(strip)
-    return strip.count(letter) * (bound // size) + strip[:bound % size].count(letter)
+    return times_ahead(strip, letter, bound)
 
 
 def sheet_of(strip):

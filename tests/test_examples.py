@@ -38,7 +38,7 @@ class ExamplesTest(unittest.TestCase):
                 count += 1
             else:
                 exec(typed, names)
-        self.assertEqual(count, 24)
+        self.assertEqual(count, 44)
 
 
 if __name__ == "__main__":

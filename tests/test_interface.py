@@ -44,6 +44,24 @@ FUNCTIONS = {
         "push_endless(stack, stop, going, number), pop_endless(stack, stop, going), "
         "push_long(stack, stop, going, base, number), pop_long(stack, stop, going, base), "
         "chance_endless(stop, going, number), chance_long(stop, going, base, number)"),
+    "evenstrips": "strip_by(growths), even_strip(table)",
+    "claims": (
+        "is_growths(thing), sum_of_growths(growths), claim_fits(growths, extra), pairs_below(growths, extra, bound), "
+        "overdrawn(growths, extra)"),
+    "claimpapers": "claim_paper(growths, extra)",
+    "claimchecker": "lets_claim(growths, extra, thing)",
+    "registerkinds": "is_register(thing), fits_register(holder, strip), is_state(holder, thing)",
+    "stretches": (
+        "stretch_of(holder, strip, letter), slips_at(holder, strip, letter), sticks_at(holder, strip, letter), "
+        "is_exact(holder, strip), exact_rests(base, strip), exact_for_all(holder, many)"),
+    "registercoder": "write_letter(holder, strip, state, heap, letter), read_letter(holder, strip, state, heap)",
+    "faultpapers": "fault_paper(holder, strip)",
+    "faultchecker": "lets_fault(holder, strip, thing)",
+    "widening": "next_exact(holder, strip), next_for_all(holder, many)",
+    "streams": "wide_of(holder), write_text(holder, strips, text), read_text(holder, strips, digits)",
+    "severals": "write_several(holder, many, strips, text), read_several(holder, many, strips, digits)",
+    "bulks": (
+        "bulk_of(holder, state, heap), bulk_bounds(holder, strip, letter), heap_bounds(holder, strips, text)"),
     "learnkinds": "is_learner(thing), is_tree(letters, thing), is_share(thing), is_model(thing), depth_of(tree)",
     "learning": (
         "table_after(learner, text), chance_learned(learner, text), chance_of_counts(learner, counts), "
@@ -56,6 +74,10 @@ FUNCTIONS = {
         "push_treed(stack, learner, tree, ahead, text), pop_treed(stack, learner, tree, ahead, many)"),
     "mixing": (
         "mass_at(model, ahead, text, context), chance_mixed(model, ahead, text), table_mixed(model, ahead, text)"),
+    "mixcoder": "push_mixed(stack, model, ahead, text), pop_mixed(stack, model, ahead, many)",
+    "besttrees": "best_tree(model, ahead, text), best_worth(model, ahead, text), tree_shares(model, ahead, text)",
+    "modeltexts": "tree_line(letters, tree), model_line(model)",
+    "modelreadings": "read_tree(text), read_model(text)",
     "schemekinds": "is_scheme(thing), levels_of(scheme)",
     "things": "is_thing(scheme, thing), chance_in(scheme, thing), things_of(scheme), how_many(scheme)",
     "numberings": (
@@ -68,6 +90,13 @@ FUNCTIONS = {
         "chance_of_spelling(letters, most, pair, spelling), spellings_of(letters, most, text), "
         "chance_copied(letters, most, pair, text), push_copied(stack, letters, most, pair, text), "
         "pop_copied(stack, letters, most, pair, many)"),
+    "schemecoder": "push_thing(stack, scheme, thing), pop_thing(stack, scheme)",
+    "hiddens": "picks_of(scheme, thing), pick_table(scheme, thing), thing_by(stack, scheme, thing)",
+    "schemeleans": "has_lean(scheme), lean_of_thing(scheme, thing)",
+    "schemetexts": "scheme_line(scheme), thing_line(thing)",
+    "schemereadings": "read_scheme(text), read_thing(text)",
+    "grammarkinds": "is_grammar(thing), is_full(grammar)",
+    "grammars": "met_symbols(grammar), ends_always(grammar), made_to_end(grammar)",
 }
 CLASSES = {
     "stackclasses": {
@@ -78,6 +107,42 @@ CLASSES = {
         "Rowed": (
             "__init__(self, base, digits)", "read(text)", "base_now", "digits_now", "__len__", "__iter__", "__str__",
             "__add__"),
+    },
+    "tableclasses": {
+        "Table": (
+            "__init__(self, *counts)", "counts_now", "sum_now", "letters_now", "strip_now",
+            "pushed(self, stack, letter)", "popped(self, stack)", "lean(self, letter)", "chance(self, letter)",
+            "__getitem__", "__contains__", "__len__", "__iter__", "__eq__", "__add__"),
+        "Evened": (
+            "__init__(self, *counts)", "strip_now", "pushed(self, stack, letter)", "popped(self, stack)",
+            "lean(self, letter)", "__add__"),
+    },
+    "registerclasses": {
+        "Register": (
+            "__init__(self, base, least)", "base_now", "least_now", "form_now", "wide_now",
+            "__call__(self, strip, letter)", "exact(self, strip)", "write_all(self, strips, text)",
+            "read_all(self, strips, digits)", "wider(self, strip)", "__contains__", "__len__", "__str__", "__eq__",
+            "least_for(cls, base, strip)"),
+        "Ready": (
+            "__init__(self, base, least, table)", "table_now", "strip_now", "written(self, text)",
+            "text_in(self, many, digits)"),
+    },
+    "modelclasses": {
+        "Mixed": (
+            "__init__(self, model, ahead)", "model_now", "ahead_now", "learner_now", "depth_now", "share_now",
+            "__call__(self, text)", "__getitem__", "push_on(self, stack, text)", "pop_off(self, stack, many)",
+            "best(self, text)", "shares(self, text)", "__iter__", "__len__", "__contains__", "__str__", "__eq__",
+            "read(text, *ahead)"),
+        "Single": ("__init__(self, learner)", "by_counts(self, counts)"),
+    },
+    "schemeclasses": {
+        "Scheme": (
+            "__init__(self, form)", "form_now", "levels_now", "many_now", "pushed(self, stack, thing)",
+            "popped(self, stack)", "chance(self, thing)", "lean(self, thing)", "__contains__", "__str__", "__eq__",
+            "__add__", "read(text)"),
+        "Hidden": (
+            "__init__(self, counts, *schemes)", "picks(self, thing)", "table_for(self, thing)",
+            "picked(self, stack, thing)"),
     },
 }
 

@@ -15,12 +15,14 @@ NODES = (
     ast.IfExp, ast.Dict, ast.ListComp, ast.Compare, ast.Call, ast.Constant, ast.Attribute, ast.Subscript, ast.Starred,
     ast.Name, ast.List, ast.Tuple, ast.Slice, ast.AugAssign, ast.Yield, ast.YieldFrom, ast.alias, ast.arguments,
     ast.arg, ast.keyword, ast.comprehension, ast.expr_context, ast.boolop, ast.unaryop, ast.cmpop,
+    ast.JoinedStr, ast.FormattedValue,
     ast.Add, ast.Sub, ast.Mult, ast.FloorDiv, ast.Mod, ast.BitAnd, ast.BitOr, ast.BitXor, ast.LShift, ast.RShift,
 )
 CALLED = {
     "len", "range", "enumerate", "zip", "min", "max", "sum", "abs", "sorted", "int", "str", "bool", "list", "tuple",
-    "dict", "isinstance", "any", "all", "iter", "TypeError",
+    "dict", "set", "isinstance", "any", "all", "iter", "TypeError",
 }
+CLASS_ITSELF = "cls"
 LIBRARY = {"math": {"gcd", "lcm", "isqrt", "comb", "perm", "factorial"}}
 METHODS = {
     "append", "clear", "copy", "count", "endswith", "extend", "find", "get", "index", "insert", "isdigit", "items",
@@ -49,6 +51,33 @@ def source(name):
 def trees():
     for name in files():
         yield name, ast.parse(source(name))
+
+
+def classes():
+    """Each class of the package, with its file and its methods."""
+    for name, tree in trees():
+        for node in tree.body:
+            if isinstance(node, ast.ClassDef):
+                yield name, node, {part.name: part for part in node.body if isinstance(part, ast.FunctionDef)}
+
+
+def returns_of(function):
+    """The values that a function returns."""
+    return [part.value for part in ast.walk(function) if isinstance(part, ast.Return)]
+
+
+def is_call_of(node, names):
+    return isinstance(node, ast.Call) and isinstance(node.func, ast.Name) and node.func.id in names
+
+
+def is_text_form(node):
+    """Whether the value has one of the forms in which __str__ and __repr__ may return it."""
+    if isinstance(node, ast.JoinedStr) or isinstance(node, ast.Constant) and isinstance(node.value, str):
+        return True
+    if is_call_of(node, ("str", "repr")):
+        return True
+    joins = isinstance(node, ast.Call) and isinstance(node.func, ast.Attribute) and node.func.attr == "join"
+    return joins and isinstance(node.func.value, ast.Constant)
 
 
 def bound_names(node):
@@ -161,13 +190,15 @@ class LanguageTest(unittest.TestCase):
                     continue
                 place = (name, node.lineno)
                 if isinstance(node.func, ast.Name):
-                    self.assertIn(node.func.id, CALLED | own, place)
+                    self.assertIn(node.func.id, CALLED | own | {CLASS_ITSELF}, place)
                     if node.func.id in CALLED:
                         self.assertFalse(node.keywords, place)
                 else:
                     self.assertIsInstance(node.func, ast.Attribute, place)
                     self.assertIn(node.func.attr, METHODS | {"__init__"}, place)
-                self.assertFalse([part for part in node.args if isinstance(part, ast.Starred)], place)
+                for part in node.args:
+                    if isinstance(part, ast.Starred):
+                        self.assertIsInstance(part.value, ast.Name, place)
 
     def test_names_and_signs(self):
         for name, tree in trees():
@@ -191,6 +222,57 @@ class LanguageTest(unittest.TestCase):
                     # other sums and differences are written out, so that operators may call all functions
                     self.assertIsInstance(node.op, (ast.Add, ast.Sub), place)
                     self.assertIsInstance(node.value, ast.Constant, place)
+
+    def test_sets(self):
+        for name, tree in trees():
+            sorts = [node for node in ast.walk(tree) if is_call_of(node, ("sorted",))]
+            allowed = [node.args[0] for node in sorts if len(node.args) == 1]
+            for node in ast.walk(tree):
+                if is_call_of(node, ("set",)):
+                    self.assertIn(node, allowed, (name, node.lineno))
+
+    def test_texts_and_lengths(self):
+        for name, node, methods in classes():
+            for method in ("__str__", "__repr__"):
+                if method in methods:
+                    for value in returns_of(methods[method]):
+                        self.assertTrue(is_text_form(value), (name, value.lineno))
+            if "__len__" in methods:
+                for value in returns_of(methods["__len__"]):
+                    self.assertTrue(is_call_of(value, ("len",)), (name, value.lineno))
+            for method in ("__str__", "__repr__", "__len__"):
+                if method in methods:
+                    self.assertIsInstance(methods[method].body[-1], ast.Return, (name, node.name))
+            for method in methods.values():
+                if method.name == "__init__":
+                    self.assertEqual(returns_of(method), [], (name, node.name))
+
+    def test_items_and_iteration(self):
+        known = {}
+        for name, node, methods in classes():
+            known[node.name] = set(methods)
+            for base in node.bases:
+                known[node.name] |= known.get(base.id, set())
+            self.assertTrue("__getitem__" not in known[node.name] or "__iter__" in known[node.name], node.name)
+            if "__iter__" in methods:
+                body = [part for part in methods["__iter__"].body if not isinstance(part, ast.Expr)]
+                self.assertEqual(len(body), 1, (name, node.name))
+                if isinstance(body[0], ast.Return):
+                    self.assertTrue(is_call_of(body[0].value, ("iter",)), (name, node.name))
+                    self.assertIsInstance(body[0].value.args[0], ast.Attribute, (name, node.name))
+
+    def test_class_names(self):
+        properties, plain, attributes = set(), set(), set()
+        for name, node, methods in classes():
+            for method in methods.values():
+                decorators = [part.id for part in method.decorator_list]
+                (properties if decorators == ["property"] else plain).add(method.name)
+            attributes |= {part.attr for part in ast.walk(node)
+                           if isinstance(part, ast.Attribute) and isinstance(part.ctx, ast.Store)}
+        self.assertFalse(properties & plain)
+        self.assertFalse(attributes & (properties | plain))
+        for value in ("", 0, [], {}, (), set(), b""):
+            self.assertFalse((properties | plain - DUNDERS) & set(dir(value)))
 
     def test_raises(self):
         for name, tree in trees():
