@@ -22,7 +22,6 @@ class Table:
         need(is_table(counts), "counts")
         self._counts = counts
         self._letters = used_letters(counts)
-        self._even = False
 
     @property
     def counts_now(self):
@@ -78,7 +77,7 @@ class Table:
         return iter(self._letters)
 
     def __eq__(self, other):
-        return isinstance(other, Table) and self._counts == other._counts and self._even == other._even
+        return isinstance(other, Table) and not isinstance(other, Evened) and self._counts == other._counts
 
     def __add__(self, other):
         """The Table of the sums of both ones' counts."""
@@ -88,11 +87,25 @@ class Table:
 
 
 class Evened(Table):
-    """A table that pushes and pops by its even strip."""
+    """A table that pushes and pops by its even strip; all that the interface lists for both stands in both."""
 
     def __init__(self, *counts):
         Table.__init__(self, *counts)
-        self._even = True
+
+    @property
+    def counts_now(self):
+        """The counts."""
+        return self._counts
+
+    @property
+    def sum_now(self):
+        """The sum of the counts."""
+        return sum(self._counts)
+
+    @property
+    def letters_now(self):
+        """The set of the letters."""
+        return self._letters
 
     @property
     def strip_now(self):
@@ -110,6 +123,28 @@ class Evened(Table):
     def lean(self, letter):
         """The lean of the letter."""
         return lean_of(even_strip(self._counts), letter)
+
+    def chance(self, letter):
+        """The letter's count by the sum."""
+        return chance_of(self._counts, letter)
+
+    def __getitem__(self, at):
+        """The count of the letter at."""
+        need(is_letter(self._counts, at), "letter")
+        return self._counts[at]
+
+    def __contains__(self, thing):
+        """Whether any value is a letter of the table."""
+        return is_letter(self._counts, thing)
+
+    def __len__(self):
+        return len(self._letters)
+
+    def __iter__(self):
+        return iter(self._letters)
+
+    def __eq__(self, other):
+        return isinstance(other, Evened) and self._counts == other._counts
 
     def __add__(self, other):
         """The Evened of the sums of both ones' counts."""

@@ -114,8 +114,9 @@ CLASSES = {
             "pushed(self, stack, letter)", "popped(self, stack)", "lean(self, letter)", "chance(self, letter)",
             "__getitem__", "__contains__", "__len__", "__iter__", "__eq__", "__add__"),
         "Evened": (
-            "__init__(self, *counts)", "strip_now", "pushed(self, stack, letter)", "popped(self, stack)",
-            "lean(self, letter)", "__add__"),
+            "__init__(self, *counts)", "counts_now", "sum_now", "letters_now", "strip_now",
+            "pushed(self, stack, letter)", "popped(self, stack)", "lean(self, letter)", "chance(self, letter)",
+            "__getitem__", "__contains__", "__len__", "__iter__", "__eq__", "__add__"),
     },
     "registerclasses": {
         "Register": (

@@ -17,6 +17,17 @@ ODD = (
 MODEL_WORDS = ["model", "2", "1", "0", "depth", "1", "share", "1", "2"]
 
 
+def tree_end(letters, words, at):
+    """The index behind the tree that begins there, or the negative of the field at which reading ends, less 1."""
+    if at == len(words) or words[at] not in (".", "+"):
+        return -1 - at
+    end = at + 1
+    for _ in range(letters if words[at] == "+" else 0):
+        if end >= 0:
+            end = tree_end(letters, words, end)
+    return end
+
+
 class Reading(unittest.TestCase):
     reader = None
 
@@ -56,6 +67,20 @@ class TreeLineTest(Reading):
                 self.assertEqual(self.field(" ".join(words[:at])), at)
         for odd in ODD + (".", "+", "tree", "2"):
             self.assertEqual(self.field(" ".join(words + [odd])), len(words))
+
+    def test_changed_lines(self):
+        for letters, depth in ((1, 3), (2, 2), (3, 1)):
+            for tree in trees.all_trees(letters, depth):
+                words = tree_line(letters, tree).split(" ")
+                for at in range(2, len(words)):
+                    for put_in in ([], [".", "."], ["+", words[at]], ["+"], ["."]):
+                        changed = words[:at] + put_in + words[at + 1:]
+                        text = " ".join(changed)
+                        end = tree_end(letters, changed, 2)
+                        if end == len(changed):
+                            self.assertEqual(tree_line(*read_tree(text)), text)
+                        else:
+                            self.assertEqual(self.field(text), end if end >= 0 else -1 - end, text)
 
     def test_single_lines(self):
         for text, field in (

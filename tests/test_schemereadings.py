@@ -1,3 +1,4 @@
+import re
 import unittest
 
 from pushedback.errors import InvalidText
@@ -29,6 +30,24 @@ def line_by_hand(value):
 def depths(words):
     """How many ( lack their ) ahead of each word."""
     return [words[:at].count("(") - words[:at].count(")") for at in range(len(words))]
+
+
+def can_stand(words, at):
+    """Whether the word can stand where it does in a line of a scheme, if all ahead of it can."""
+    word = words[at]
+    if at == 0 or word in WORDS:
+        return word in WORDS and (at == 0 or words[at - 1] == "(")
+    if word == ")":
+        return depths(words)[at] > 0
+    return word == "(" or re.fullmatch("0|[1-9][0-9]{0,59}", word) is not None
+
+
+def changed_rows(words):
+    """The rows with one word left out, doubled, or put behind the next one."""
+    for at in range(len(words)):
+        yield words[:at] + words[at + 1:]
+        yield words[:at] + [words[at]] + words[at:]
+        yield words[:at] + words[at:at + 2][::-1] + words[at + 2:]
 
 
 class SchemereadingsTest(unittest.TestCase):
@@ -88,6 +107,21 @@ class SchemereadingsTest(unittest.TestCase):
             self.assertEqual(self.field(read_scheme, " ".join(["("] + words + [")"])), 0)
             self.assertEqual(self.field(read_scheme, " ".join(["7"] + words)), 0)
             self.assertEqual(self.field(read_scheme, " ".join(words) + "\n"), len(words) - 1)
+
+    def test_changed_lines(self):
+        for scheme in SCHEMES:
+            for words in changed_rows(scheme_line(scheme).split(" ")):
+                text = " ".join(words)
+                misfits = [at for at in range(len(words)) if not can_stand(words, at)]
+                if misfits:
+                    self.assertEqual(self.field(read_scheme, text), misfits[0], text)
+                elif words.count("(") > words.count(")"):
+                    self.assertEqual(self.field(read_scheme, text), len(words), text)
+                else:
+                    try:
+                        self.assertEqual(scheme_line(read_scheme(text)), text)
+                    except InvalidText as error:
+                        self.assertEqual((error.line, error.field), (0, 0), text)
 
     def test_what_is_no_scheme(self):
         tried = 0
