@@ -14,7 +14,8 @@ def reached_symbols(grammar):
     met = [0]
     at = 0
     while at < len(met):
-        for body in used_bodies(grammar[met[at]]):
+        bodies = used_bodies(grammar[met[at]])
+        for body in bodies:
             for symbol in symbols_in(body):
                 if symbol not in met:
                     met.append(symbol)
@@ -69,8 +70,11 @@ def made_to_end(grammar):
     ends = ends_by(bodies)
     if any([ends[symbol] < 0 for symbol in reached_symbols(grammar)]):
         return None
-    symbols = list(grammar)
-    for at in range(len(symbols)):
-        if ends[at] >= 0:
-            symbols[at] = rule_first(symbols[at], bodies[at][ends[at]])
+    symbols = []
+    for at, symbol in enumerate(grammar):
+        # what is not met need not end
+        if ends[at] < 0:
+            symbols.append(symbol)
+        else:
+            symbols.append(rule_first(symbol, bodies[at][ends[at]]))
     return tuple(symbols)
