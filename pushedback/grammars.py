@@ -9,16 +9,24 @@ def used_bodies(symbol):
     return [body for count, body in symbol if count > 0]
 
 
+def first_symbols(symbol):
+    """The symbols in the body of the symbol's first rule."""
+    return symbols_in(used_bodies(symbol)[0])
+
+
+def following_symbols(symbol):
+    """The symbols in the bodies of the symbol's rules with a count above 0."""
+    return [part for body in used_bodies(symbol) for part in symbols_in(body)]
+
+
 def reached_symbols(grammar):
     """A list of the symbols that are met, the symbol 0 first."""
     met = [0]
     at = 0
     while at < len(met):
-        bodies = used_bodies(grammar[met[at]])
-        for body in bodies:
-            for symbol in symbols_in(body):
-                if symbol not in met:
-                    met.append(symbol)
+        for symbol in following_symbols(grammar[met[at]]):
+            if symbol not in met:
+                met.append(symbol)
         at += 1
     return met
 
