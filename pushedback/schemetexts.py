@@ -7,19 +7,30 @@ from pushedback.schemekinds import is_scheme
 
 def is_form(thing):
     """Whether the thing is a thing by form: a number, or a tuple of things by form."""
-    if isinstance(thing, tuple):
-        return all([is_form(part) for part in thing])
-    return is_number(thing)
+    # one by one, since what a line writes may be nested deeper than calls can be
+    waiting = [thing]
+    while len(waiting) > 0:
+        part = waiting.pop()
+        if isinstance(part, tuple):
+            waiting.extend(part)
+        elif not is_number(part):
+            return False
+    return True
 
 
 def form_words(form):
     """The words of a number, of the word of a scheme, or of a tuple of such."""
-    if not isinstance(form, tuple):
-        return [str(form)]
-    words = ["("]
-    for part in form:
-        words.extend(form_words(part))
-    words.append(")")
+    words = []
+    waiting = [form]
+    while len(waiting) > 0:
+        part = waiting.pop()
+        if isinstance(part, tuple):
+            words.append("(")
+            # the end of the tuple waits behind its parts, the first one of which comes next
+            waiting.append(")")
+            waiting.extend(part[::-1])
+        else:
+            words.append(str(part))
     return words
 
 

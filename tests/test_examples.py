@@ -1,5 +1,6 @@
-"""The document's own examples, of the modules that are there."""
+"""The document's own examples, and those of the README."""
 
+import doctest
 import os
 import unittest
 
@@ -38,7 +39,13 @@ class ExamplesTest(unittest.TestCase):
                 count += 1
             else:
                 exec(typed, names)
-        self.assertEqual(count, 44)
+        self.assertEqual(count, 65)
+
+    def test_readme(self):
+        path = os.path.join(os.path.dirname(os.path.dirname(__file__)), "README.md")
+        failed, tried = doctest.testfile(path, module_relative=False)
+        self.assertEqual(failed, 0)
+        self.assertGreater(tried, 10)
 
 
 if __name__ == "__main__":

@@ -97,6 +97,51 @@ FUNCTIONS = {
     "schemereadings": "read_scheme(text), read_thing(text)",
     "grammarkinds": "is_grammar(thing), is_full(grammar)",
     "grammars": "met_symbols(grammar), ends_always(grammar), made_to_end(grammar)",
+    "endpapers": "end_paper(grammar)",
+    "endchecker": "lets_end(grammar, thing)",
+    "parses": (
+        "is_parse(grammar, thing), text_of_parse(grammar, parse), chance_of_parse(grammar, parse), "
+        "push_parse(stack, grammar, parse), pop_parse(stack, grammar)"),
+    "parsing": (
+        "parses_of(grammar, text), chance_parsed(grammar, text), push_parsed(stack, grammar, text), "
+        "pop_parsed(stack, grammar)"),
+    "leastwords": "is_least(text), least_words(text)",
+    "rings": "rings_of(text), text_of_rings(rings), turned(text), unturned(text)",
+    "shifts": (
+        "fronts_of(letters, text), text_of_fronts(letters, fronts), runs_of(text), text_of_runs(runs), "
+        "by_columns(wide, digits), by_rows(wide, digits)"),
+    "lifting": (
+        "is_ladder(thing), lifted(ladder, samples), unlifted(ladder, samples), lifted_in(many, ladder, samples), "
+        "unlifted_in(many, ladder, samples)"),
+    "ranks": "number_of_integer(integer), integer_of_number(number), rank_of_text(text), text_by(counts, rank)",
+    "chains": (
+        "is_chain(thing), turned_by(chain, letters, text), turned_back(chain, letters, text), keeps_counts(chain)"),
+    "fields": (
+        "is_field(thing), is_plan(size, thing), is_blocks(size, many, thing), field_plus(size, one, other), "
+        "field_minus(size, one, other), field_times(size, one, other), field_over(size, one, other), "
+        "field_raised(size, one, other)"),
+    "fieldrows": (
+        "settled_rows(size, wide, rows), rank_in(size, wide, rows), sum_for(size, wide, rows, digits), "
+        "apart_from(size, wide, rows, place)"),
+    "mending": (
+        "plan_by_points(size, points, many), pieces_of(size, plan, blocks), told_blocks(size, plan, kept), "
+        "can_mend(size, plan, kept), mended(size, plan, kept, pieces), mending_sets(size, plan)"),
+    "losspapers": "loss_paper(size, plan, kept, block)",
+    "losschecker": "lets_loss(size, plan, kept, block, thing)",
+    "checks": (
+        "push_check(stack, modulus), pop_check(stack, modulus), is_spoilt(stack, modulus), "
+        "seen_apart(base, modulus, one, other)"),
+    "framing": (
+        "stream_of(base, stacks), frames_in(base, scrap), starts_of(base, stream), "
+        "shortest_loss(base, stream, many)"),
+    "packing": (
+        "is_setup(thing), blocks_of(size, many, stack), stack_of_blocks(size, blocks), packed(setup, stack), "
+        "pieces_in(setup, scraps), unpacked(setup, scraps), shortest_break(setup, stream)"),
+    "wholes": "sent(setup, scheme, ground, thing), received(setup, scheme, scraps)",
+    "liveevents": "is_event(thing), is_log(thing)",
+    "replaying": "replayed(log)",
+    "eventtexts": "event_line(event), log_lines(log)",
+    "eventreadings": "read_event(text), read_log(lines)",
 }
 CLASSES = {
     "stackclasses": {
@@ -145,6 +190,39 @@ CLASSES = {
             "__init__(self, counts, *schemes)", "picks(self, thing)", "table_for(self, thing)",
             "picked(self, stack, thing)"),
     },
+    "turnclasses": {
+        "Turning": (
+            "__init__(self, *chain)", "chain_now", "__call__(self, letters, text)", "back(self, letters, text)",
+            "__len__", "__iter__", "__contains__", "__invert__", "__add__", "undoing(cls, *chain)", "__eq__"),
+        "Ringed": ("__init__(self)", "rings_for(self, text)"),
+    },
+    "lossclasses": {
+        "Plan": (
+            "__init__(self, size, *rows)", "size_now", "plan_now", "__call__(self, kept)", "__getitem__",
+            "pieces(self, blocks)", "told(self, kept)", "mended(self, kept, pieces)", "paper(self, kept, block)",
+            "__len__", "__iter__", "__contains__", "__eq__", "__add__"),
+        "Points": ("__init__(self, size, many, *points)", "many_now", "points_now", "lacking(self, kept)"),
+    },
+    "live": {
+        "LiveStack": (
+            "__init__(self, ground, scheme)", "ground_now", "stack_now", "scheme_now", "push_on(self, thing)",
+            "pop_off(self)", "change(self, scheme)", "feed(self, base, digits)", "back(self, base, many)",
+            "go(self, event)", "barred(self, event)", "tried(self, *events)", "undo(self, steps=1)",
+            "do_all(self, *events, keep=False)", "tally(self)", "log(self)", "__iter__", "__len__", "__getitem__",
+            "__contains__", "__eq__"),
+    },
+    "gates": {
+        "Gate": (
+            "__init__(self, base)", "feed(self, digits)", "gap(self)", "frames_now", "waiting_now", "whole_now"),
+        "Checked": ("__init__(self, base, modulus)", "feed(self, digits)", "spoilt_now"),
+    },
+    "desk": {
+        "Desk": ("__init__(self)", "say(self, row)", "counts(self)"),
+    },
+}
+DERIVED = {
+    "Rowed": "Stack", "Evened": "Table", "Ready": "Register", "Single": "Mixed", "Hidden": "Scheme",
+    "Ringed": "Turning", "Points": "Plan", "Checked": "Gate",
 }
 
 
@@ -176,6 +254,18 @@ class InterfaceTest(unittest.TestCase):
                     self.assertIn(method, here)
                     if parameters:
                         self.assertEqual(f"({ast.unparse(here[method].args)})", "(" + parameters)
+                    decorators = [part.id for part in here[method].decorator_list]
+                    self.assertEqual("property" in decorators, method.endswith("_now"), method)
+                bases = [base.id for base in defined[name].bases]
+                self.assertEqual(bases, [DERIVED[name]] if name in DERIVED else [], name)
+
+    def test_all_modules(self):
+        self.assertFalse(set(FUNCTIONS) & set(CLASSES))
+        self.assertEqual(len(FUNCTIONS) + len(CLASSES), 83)
+        for module in list(FUNCTIONS) + list(CLASSES) + ["errors"]:
+            path = os.path.join(os.path.dirname(pushedback.__file__), module + ".py")
+            self.assertTrue(os.path.isfile(path), module)
+        self.assertLessEqual(len(os.listdir(os.path.dirname(pushedback.__file__))), 100)
 
 
 if __name__ == "__main__":

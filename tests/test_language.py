@@ -15,7 +15,7 @@ NODES = (
     ast.IfExp, ast.Dict, ast.ListComp, ast.Compare, ast.Call, ast.Constant, ast.Attribute, ast.Subscript, ast.Starred,
     ast.Name, ast.List, ast.Tuple, ast.Slice, ast.AugAssign, ast.Yield, ast.YieldFrom, ast.alias, ast.arguments,
     ast.arg, ast.keyword, ast.comprehension, ast.expr_context, ast.boolop, ast.unaryop, ast.cmpop,
-    ast.JoinedStr, ast.FormattedValue,
+    ast.JoinedStr, ast.FormattedValue, ast.Try, ast.ExceptHandler,
     ast.Add, ast.Sub, ast.Mult, ast.FloorDiv, ast.Mod, ast.BitAnd, ast.BitOr, ast.BitXor, ast.LShift, ast.RShift,
 )
 CALLED = {
@@ -33,6 +33,7 @@ DUNDERS = {
     "__init__", "__eq__", "__repr__", "__str__", "__len__", "__call__", "__iter__", "__add__", "__getitem__",
     "__contains__", "__invert__",
 }
+CHANGING = {"append", "clear", "extend", "insert", "pop", "remove", "reverse", "setdefault", "update"}
 DECORATORS = {"property", "staticmethod", "classmethod"}
 NEVER = {"register", "mro", "elements", "open", "input", "law", "version_info", "with_traceback", "add_note"}
 WORDS = (
@@ -46,6 +47,11 @@ def files():
 def source(name):
     with open(os.path.join(FOLDER, name), encoding="utf-8") as file:
         return file.read()
+
+
+def own_methods():
+    """The names of all methods of the package's classes that are no double-underscore ones."""
+    return {name for _, _, methods in classes() for name in methods if not name.startswith("__")}
 
 
 def trees():
@@ -78,6 +84,11 @@ def is_text_form(node):
         return True
     joins = isinstance(node, ast.Call) and isinstance(node.func, ast.Attribute) and node.func.attr == "join"
     return joins and isinstance(node.func.value, ast.Constant)
+
+
+def is_new_list(node):
+    """Whether the value is a list that is made just there."""
+    return isinstance(node, (ast.List, ast.ListComp)) or is_call_of(node, ("list", "dict", "sorted"))
 
 
 def bound_names(node):
@@ -184,6 +195,7 @@ class LanguageTest(unittest.TestCase):
         for _, tree in trees():
             own |= {node.name for node in ast.walk(tree) if isinstance(node, (ast.FunctionDef, ast.ClassDef))}
         own |= LIBRARY["math"]
+        methods = METHODS | own_methods() | {"__init__"}
         for name, tree in trees():
             for node in ast.walk(tree):
                 if not isinstance(node, ast.Call):
@@ -195,7 +207,7 @@ class LanguageTest(unittest.TestCase):
                         self.assertFalse(node.keywords, place)
                 else:
                     self.assertIsInstance(node.func, ast.Attribute, place)
-                    self.assertIn(node.func.attr, METHODS | {"__init__"}, place)
+                    self.assertIn(node.func.attr, methods, place)
                 for part in node.args:
                     if isinstance(part, ast.Starred):
                         self.assertIsInstance(part.value, ast.Name, place)
@@ -225,7 +237,7 @@ class LanguageTest(unittest.TestCase):
 
     def test_sets(self):
         for name, tree in trees():
-            sorts = [node for node in ast.walk(tree) if is_call_of(node, ("sorted",))]
+            sorts = [node for node in ast.walk(tree) if is_call_of(node, ("sorted", "len"))]
             allowed = [node.args[0] for node in sorts if len(node.args) == 1]
             for node in ast.walk(tree):
                 if is_call_of(node, ("set",)):
@@ -273,6 +285,64 @@ class LanguageTest(unittest.TestCase):
         self.assertFalse(attributes & (properties | plain))
         for value in ("", 0, [], {}, (), set(), b""):
             self.assertFalse((properties | plain - DUNDERS) & set(dir(value)))
+
+    def test_class_bodies(self):
+        for name, node, methods in classes():
+            for part in node.body:
+                self.assertIsInstance(part, (ast.Expr, ast.FunctionDef, ast.Assign), (name, node.name))
+                if isinstance(part, ast.Expr):
+                    self.assertIsInstance(part.value.value, str)
+                if isinstance(part, ast.Assign):
+                    self.assertIsInstance(ast.literal_eval(part.value), int)
+                    self.assertNotIn(part.targets[0].id, set(methods))
+
+    def test_handlers(self):
+        errors = {node.name for node in ast.parse(source("errors.py")).body if isinstance(node, ast.ClassDef)}
+        for name, tree in trees():
+            for node in ast.walk(tree):
+                if isinstance(node, ast.Try):
+                    self.assertEqual((node.orelse, node.finalbody), ([], []), (name, node.lineno))
+                    for handler in node.handlers:
+                        self.assertIn(handler.type.id, errors, (name, node.lineno))
+
+    def test_what_operators_change(self):
+        """All that runs in an operator, a property or a text form changes only what it made itself."""
+        made = {}
+        for name, tree in trees():
+            for node in ast.walk(tree):
+                if isinstance(node, ast.FunctionDef):
+                    made.setdefault(node.name, []).append((name, node))
+        waiting = set()
+        for name, node, methods in classes():
+            for method in methods.values():
+                decorators = [part.id for part in method.decorator_list]
+                if method.name in DUNDERS - {"__init__", "__call__"} or decorators == ["property"]:
+                    waiting.add(method.name)
+        seen = set()
+        while waiting:
+            word = waiting.pop()
+            seen.add(word)
+            for name, node in made.get(word, []):
+                self.check_changes(name, node)
+                for part in ast.walk(node):
+                    if isinstance(part, ast.Call):
+                        called = getattr(part.func, "id", getattr(part.func, "attr", None))
+                        if called in made and called not in seen and called not in METHODS:
+                            waiting.add(called)
+
+    def check_changes(self, name, function):
+        own = set()
+        for part in ast.walk(function):
+            if isinstance(part, ast.Assign) and is_new_list(part.value):
+                own |= {target.id for target in part.targets if isinstance(target, ast.Name)}
+        for part in ast.walk(function):
+            place = (name, function.name, getattr(part, "lineno", 0))
+            if isinstance(part, ast.Attribute):
+                self.assertIsInstance(part.ctx, ast.Load, place)
+            if isinstance(part, ast.Subscript) and not isinstance(part.ctx, ast.Load):
+                self.assertIn(getattr(part.value, "id", None), own, place)
+            if isinstance(part, ast.Call) and getattr(part.func, "attr", None) in CHANGING:
+                self.assertIn(getattr(part.func.value, "id", None), own, place)
 
     def test_raises(self):
         for name, tree in trees():
