@@ -13,8 +13,7 @@ LEAST_WORDS = {"pop": 1, "feed": 2, "back": 3}
 
 def thing_behind(line, words):
     """The thing by form that the words behind the first one write."""
-    if len(words) == 1:
-        raise InvalidText(line, 1)
+    # if there are none, it is the empty word that cannot stand, in the same place
     try:
         return read_thing(" ".join(words[1:]))
     except InvalidText as error:
@@ -23,8 +22,7 @@ def thing_behind(line, words):
 
 def scheme_behind(line, words, ahead):
     """The scheme that the words write behind so many ahead of it."""
-    if len(words) == ahead:
-        raise InvalidText(line, ahead)
+    # as above
     try:
         return read_scheme(" ".join(words[ahead:]))
     except InvalidText as error:

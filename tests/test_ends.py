@@ -12,6 +12,13 @@ from tests.test_grammars import BIG, GRAMMARS, LOOP, NO_GRAMMAR, TWOS, small_gra
 ROUND = (
     ((1, (0,)), (0, (-4,)), (2, (-2, 5))), ((0, ()), (1, (-3, -3)), (1, ())), ((3, (-2, -1)),), ((1, (-4,)),),
 )
+# from 0 it takes a way by symbols that end, to symbols in whose first rules some symbols end and others do not
+FAR = (
+    (((1, (0,)), (1, (-2, 0))), ((1, (0,)), (1, (-1, -3))), ((1, (1,)), (1, (-4,))), ((1, (-4,)),)),
+    (((1, (0,)), (1, (-1, -2))), ((1, (0,)), (1, (-1, -3))), ((1, (-1, -2, -4)),), ((1, (-2, -3, -1)), (1, (0,)))),
+    (((1, (-3,)), (1, (-2,))), ((1, (-3,)), (0, (-5,)), (1, (-4,))), ((1, ()),), ((1, (-3,)), (1, (-5,))), ((1, (-3, -5)),)),
+    (((1, (-2, -3)), (1, (-2, -4))), ((1, ()),), ((1, (-2,)),), ((1, (-2, -5)),), ((1, (-3, -6)),), ((1, (-2, -4, -3)),)),
+)
 NO_SHAPE = (
     None, True, 0, "", "ends", [], (), ("ends",), ("goes",), ("ends", None), ("ends", 0), ("ends", [0]),
     ["ends", (0,)], ("ends", (0,), (0,)), ("goes", (0,)), ("goes", (0,), [0]), ("goes", [0], (0,)), ("goes", 0, (0,)),
@@ -63,7 +70,7 @@ class EndsTest(unittest.TestCase):
         self.assertEqual(lets_end(grammar, paper), paper[0])
 
     def test_papers(self):
-        for grammar in GRAMMARS + (ROUND,):
+        for grammar in GRAMMARS + (ROUND,) + FAR:
             self.check(grammar)
         for grammar in small_grammars():
             self.check(grammar)

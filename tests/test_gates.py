@@ -107,6 +107,10 @@ class GateTest(unittest.TestCase):
     def test_states(self):
         gate = Gate(3)
         self.assertEqual((gate.frames_now, gate.waiting_now, gate.whole_now), ((), None, False))
+        # no digits at all change nothing, at the beginning and behind a gap
+        self.assertEqual((gate.feed(()), gate.waiting_now, gate.whole_now), ((), None, False))
+        self.assertEqual((gate.gap(), gate.feed(()), gate.feed((2,)), gate.whole_now), (None, (), (), True))
+        self.assertEqual((gate.gap(), gate.waiting_now), ((), None))
         # digits ahead of the first mark wait for nothing
         self.assertEqual((gate.feed((1, 0)), gate.waiting_now, gate.whole_now), ((), None, False))
         self.assertEqual((gate.feed((2,)), gate.waiting_now, gate.whole_now), ((), (), False))
