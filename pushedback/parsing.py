@@ -141,10 +141,7 @@ def parses_of(grammar, text):
     """A list of all parses of the grammar with this text, each once."""
     need(is_full_grammar(grammar), "grammar")
     need(is_row(text), "text")
-    totals = totals_of(grammar, text)
-    if whole_total(totals, text) == NOUGHT:
-        return []
-    return parses_at(grammar, text, totals, (0, 0, len(text)))
+    return parses_at(grammar, text, totals_of(grammar, text), (0, 0, len(text)))
 
 
 def chance_parsed(grammar, text):
