@@ -21,13 +21,16 @@ def way_to(grammar, goals):
     ways = [(0,)]
     seen = [0]
     at = 0
-    while ways[at][-1] not in goals:
-        for symbol in following_symbols(grammar[ways[at][-1]]):
+    way = ways[at]
+    while way[-1] not in goals:
+        following = following_symbols(grammar[way[-1]])
+        for symbol in following:
             if symbol not in seen:
                 seen.append(symbol)
-                ways.append(ways[at] + (symbol,))
+                ways.append(way + (symbol,))
         at += 1
-    return ways[at]
+        way = ways[at]
+    return way
 
 
 def going_paper(grammar, going):

@@ -24,7 +24,8 @@ def reached_symbols(grammar):
     met = [0]
     at = 0
     while at < len(met):
-        for symbol in following_symbols(grammar[met[at]]):
+        following = following_symbols(grammar[met[at]])
+        for symbol in following:
             if symbol not in met:
                 met.append(symbol)
         at += 1

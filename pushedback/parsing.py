@@ -49,6 +49,11 @@ def choices_at(grammar, text, totals, span):
     return choices
 
 
+def weights_of(choices):
+    """The weights of choices, in order."""
+    return [weight for rule, lengths, weight in choices]
+
+
 def totals_of(grammar, text):
     """The total of each symbol and part of the text, not (); shorter parts come first, as longer ones need them."""
     totals = {}
@@ -56,8 +61,7 @@ def totals_of(grammar, text):
         for begin in range(len(text) - wide + 1):
             for symbol in range(len(grammar)):
                 span = (symbol, begin, begin + wide)
-                weights = [weight for rule, lengths, weight in choices_at(grammar, text, totals, span)]
-                totals[span] = ratio_total(weights)
+                totals[span] = ratio_total(weights_of(choices_at(grammar, text, totals, span)))
     return totals
 
 
@@ -99,7 +103,7 @@ def popped_choices(stack, grammar, text, totals):
     while len(waiting) > 0:
         span = waiting.pop()
         choices = choices_at(grammar, text, totals, span)
-        place, left = popped_by(left, lowest_shares([weight for rule, lengths, weight in choices]))
+        place, left = popped_by(left, lowest_shares(weights_of(choices)))
         rule, lengths, _ = choices[place]
         nodes.append((span[0], rule))
         below = spans_below(body_of(grammar, nodes[-1]), lengths, span[1])
@@ -128,7 +132,7 @@ def pushed_choices(stack, grammar, text, nodes):
         span = waiting.pop()
         choices = choices_at(grammar, text, totals, span)
         place = [told[:2] for told in choices].index((node[1], lengths))
-        pushes.append((lowest_shares([weight for rule, cut, weight in choices]), place))
+        pushes.append((lowest_shares(weights_of(choices)), place))
         below = spans_below(body_of(grammar, node), lengths, span[1])
         waiting.extend(below[::-1])
     result = stack

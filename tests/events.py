@@ -18,7 +18,8 @@ NO_EVENT = (
     ("pushes", 0), ["push", 0], ("push", None), ("change",), ("change", COIN, COIN), ["change", COIN], ("feed",), ("feed", 2),
     ("feed", 2, (0,), (0,)), ("feed", 2, 0), ("feed", 2, (2,)), ("feed", 2, [0]), ("feed", 2, (True,)), ("feed", (0,), 2),
     ("feed", 2, (-1,)), ("back",), ("back", 2), ("back", 2, 0, 0), ("back", 2, (0,)), ("begin", 5, COIN), ("undo", 1),
-    (("pop",),), ("Change", COIN), ("", COIN), ("table", COIN), ("pop", COIN), ("", 0), (None, 2, 0), (["pop"],), (True,), ("feed", 2, None), ("back", 2, "0"), ("pop", "pop", "pop"),
+    (("pop",),), ("Change", COIN), ("", COIN), ("table", COIN), ("pop", COIN), ("", 0),
+    (None, 2, 0), (["pop"],), (True,), ("feed", 2, None), ("back", 2, "0"), ("pop", "pop", "pop"),
 ) + tuple(("push", thing) for thing in NO_FORM) + tuple(("change", scheme) for scheme in NO_SCHEME) + tuple(
     (word, base, told) for base in NO_BASE for word, told in (("feed", ()), ("back", 0))) + tuple(
     ("feed", 2, digits) for digits in NO_ROW) + tuple(("back", 2, many) for many in NO_NUMBER)

@@ -6,7 +6,7 @@ from pushedback.eventreadings import read_event, read_log
 from pushedback.eventtexts import event_line, log_lines
 from pushedback.schemereadings import read_scheme, read_thing
 from pushedback.schemetexts import scheme_line, thing_line
-from tests.events import BIG, EVENTS, LOGS, NO_EVENT, NO_LOG
+from tests.events import EVENTS, LOGS, NO_EVENT, NO_LOG
 from tests.refusals import NO_STRING, check_refusals
 from tests.schemes import COIN, EITHER
 

@@ -11,7 +11,7 @@ from pushedback.schemecoder import push_thing
 from pushedback.things import things_of
 from pushedback.wholes import received, sent
 from tests import streams_by_hand
-from tests.fieldsums import NO_PLAN, NO_SIZE, PLAN, PLANS, kept_sets
+from tests.fieldsums import NO_PLAN, NO_SIZE, PLAN, PLANS
 from tests.refusals import NO_NUMBER, NO_POSITIVE, NO_TUPLE, check_refusals, refused_word
 from tests.schemes import EITHER, NO_SCHEME, SCHEMES
 from tests.test_checks import NO_MODULUS, NO_STREAM_BASE

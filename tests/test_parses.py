@@ -7,7 +7,7 @@ from pushedback.grammars import ends_always, made_to_end
 from pushedback.kinds import is_quotient
 from pushedback.parses import chance_of_parse, is_parse, pop_parse, push_parse, text_of_parse
 from tests import parsings
-from tests.parsings import BIG, CHAIN, EMPTY, ENDING, FULL, HALF, LOOP, MANY, NARROW, TWOS, small_parses
+from tests.parsings import BIG, EMPTY, ENDING, HALF, LOOP, MANY, NARROW, TWOS, small_parses
 from tests.refusals import NO_NUMBER, check_refusals, refused_word
 from tests.test_grammars import NO_GRAMMAR
 
