@@ -3,7 +3,7 @@
 from pushedback.checks import is_stream_base
 from pushedback.digitrows import row_of, stack_of
 from pushedback.guards import need
-from pushedback.kinds import is_digits, is_number, is_row
+from pushedback.kinds import is_digits, is_positive, is_row
 
 
 def is_stream(base, thing):
@@ -79,8 +79,5 @@ def shortest_loss(base, stream, many):
     need(is_stream(base, stream), "stream")
     marks = mark_places(base, stream)
     frames = len(marks) - 1
-    need(is_number(many) and many <= frames, "many")
-    # a loss has one digit at least, also one that need not break a frame
-    if many == 0:
-        return 1
+    need(is_positive(many) and many <= frames, "many")
     return min([loss_between(marks, first, first + many - 1) for first in range(frames - many + 1)])

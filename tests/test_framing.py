@@ -3,7 +3,7 @@ import unittest
 
 from pushedback.framing import frames_in, shortest_loss, starts_of, stream_of
 from tests import streams_by_hand
-from tests.refusals import NO_NUMBER, NO_ROW, NO_TUPLE, check_refusals, refused_word
+from tests.refusals import NO_POSITIVE, NO_ROW, NO_TUPLE, check_refusals, refused_word
 from tests.test_checks import NO_STREAM_BASE
 
 BIG = 10 ** 59 + 7
@@ -59,16 +59,19 @@ class FramingTest(unittest.TestCase):
         for base in (3, 5):
             for stacks in STACKS[:5] + ((0, 0, 1000, 0, 0, 1), (9, 9, 0, 9)):
                 stream = stream_of(base, stacks)
-                for many in range(len(stacks) + 1):
+                for many in range(1, len(stacks) + 1):
                     told = next(
                         wide for begin, wide in streams_by_hand.losses(stream)
                         if len(streams_by_hand.broken(base, stream, begin, wide)) >= many)
                     self.assertEqual(shortest_loss(base, stream, many), told, (base, stacks, many))
-                self.assertEqual(refused_word(shortest_loss, base, stream, len(stacks) + 1), "many")
+                # at least one frame, at most as many as there are; of the stream of one mark alone none
+                for many in (0, len(stacks) + 1):
+                    self.assertEqual(refused_word(shortest_loss, base, stream, many), "many")
         self.assertEqual(shortest_loss(base=4, stream=(3, 0, 1, 3, 3, 1, 0, 3), many=3), 2)
-        # a loss has one digit at least
-        self.assertEqual(shortest_loss(4, (3,), 0), 1)
-        self.assertEqual(shortest_loss(4, (3, 0, 3), 0), 1)
+        # one mark between two frames breaks both, and each one digit of a stream with frames breaks one
+        self.assertEqual([shortest_loss(4, (3, 0, 3, 1, 3), many) for many in (1, 2)], [1, 1])
+        self.assertEqual([len(streams_by_hand.broken(4, (3, 3, 0, 3), at, 1)) for at in range(4)], [1, 2, 1, 1])
+        self.assertEqual(streams_by_hand.broken(4, (3,), 0, 1), set())
 
     def test_refusals(self):
         check_refusals(
@@ -80,7 +83,7 @@ class FramingTest(unittest.TestCase):
         check_refusals(self, starts_of, {"base": 4, "stream": (3, 0, 3)}, {"base": NO_STREAM_BASE, "stream": NO_STREAM})
         check_refusals(
             self, shortest_loss, {"base": 4, "stream": (3, 0, 3), "many": 1},
-            {"base": NO_STREAM_BASE, "stream": NO_STREAM, "many": NO_NUMBER + (2, BIG)})
+            {"base": NO_STREAM_BASE, "stream": NO_STREAM, "many": NO_POSITIVE + (2, BIG)})
         self.assertEqual(refused_word(stream_of, 4, NO_TUPLE[-1]), "stacks")
 
 
